@@ -1,0 +1,1 @@
+"""Creditturns: flows that share a line by turns with credits, exactly, for all arrivals."""

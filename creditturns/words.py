@@ -1,0 +1,87 @@
+"""Texts are read word by word; the first word that cannot stand is told by its index."""
+
+from creditturns.checks import is_name
+from creditturns.errors import BadText
+
+
+def is_figures(word):
+    """Whether a word is an integer from 0 on, as str writes it."""
+    return word.isascii() and word.isdigit() and (word == "0" or word[0] != "0")
+
+
+def tells_number(word, least, most):
+    """Whether a word is an integer from least to most."""
+    # Python refuses to read very long integers: the number of figures is looked at first.
+    return is_figures(word) and len(word) <= len(str(most)) and least <= int(word) <= most
+
+
+def check_text(text):
+    if not isinstance(text, str):
+        raise BadText(0, 0)
+
+
+class Words:
+    """The words of a text, or of a part of one, which are taken one behind another.
+
+    start is the index of the first one in the whole text.
+    """
+
+    def __init__(self, words, start=0):
+        self._words = list(words)
+        self._start = start
+        self._at = 0
+
+    def is_over(self):
+        return self._at == len(self._words)
+
+    def refuse(self):
+        """Tell the next word, or the number of the words if none is left."""
+        raise BadText(0, self._start + self._at)
+
+    def is_next(self, mark):
+        return not self.is_over() and self._words[self._at] == mark
+
+    def take_mark(self, mark):
+        if not self.is_next(mark):
+            self.refuse()
+        self._at += 1
+
+    def take_name(self, ahead):
+        """The next word, which must be a name that is greater than the one ahead."""
+        if self.is_over() or not is_name(self._words[self._at]) or self._words[self._at] <= ahead:
+            self.refuse()
+        self._at += 1
+        return self._words[self._at - 1]
+
+    def take_number(self, least, most):
+        """The integer from least to most that the next word tells."""
+        if self.is_over() or not tells_number(self._words[self._at], least, most):
+            self.refuse()
+        self._at += 1
+        return int(self._words[self._at - 1])
+
+    def take_end(self):
+        if not self.is_over():
+            self.refuse()
+
+
+def words_of(text):
+    """The Words of any value that is a string; they are parted at each space."""
+    check_text(text)
+    return Words(text.split(" "))
+
+
+def parts_of(text):
+    """A list of Words, one for each part of the text; a semicolon ends a word and its part."""
+    check_text(text)
+    parts = []
+    words = []
+    start = 0
+    for at, word in enumerate(text.split(" ")):
+        words.append(word.removesuffix(";"))
+        if word.endswith(";"):
+            parts.append(Words(words, start))
+            words = []
+            start = at + 1
+    parts.append(Words(words, start))
+    return parts

@@ -1,0 +1,74 @@
+"""What the tests share: any values, a look at errors, and sums told by a plain list."""
+
+import unittest
+
+from creditturns.buckets import Bucket
+from creditturns.errors import BadName, Grows
+from creditturns.flows import Fed, Flow
+from creditturns.leasts import Leasts
+from creditturns.lengths import Lengths
+from creditturns.links import Link
+from creditturns.plays import Arrival, Play, Sent, Turn
+from creditturns.ratios import Ratio
+
+
+def any_values():
+    """Values of all kinds, made anew; those of a kind that is meant are sorted out by the test."""
+    return [
+        None, True, False, 0, 1, 2, 3, 5, 60, 61, -1, -60, 1000, 1001, 10 ** 12, 10 ** 12 + 1, 10 ** 60, -10 ** 60,
+        "", " ", "a", "b", "z", "aa", "A", "a ", " a", "a\n", "0", "1", "2", "-1", "2 5", "a 1 : 1", "gap 1",
+        "abcdefgh", "abcdefghi", "a1", "1/2", "x" * 5000, "1" * 5000, "\n", ";", ":", "lengths", "None", "True",
+        (), (1,), (1, 1), (0, 1), (1, 2, 3), ((0, 1),), (None,), ("a",), ((((((((),),),),),),),),
+        [], [1], [0, 1], [1, 2], ["a"], [None], [[1]], [(0, 1)], list(range(3000)),
+        {}, {1: 1}, {"a": 1}, {1: {}}, {(1, 2): [3]}, {None: None},
+        Ratio(0), Ratio(1), Ratio(5), Ratio(1, 2), Lengths(1), Lengths(2, 5), Lengths(60),
+        Leasts((0,), ({},)), Leasts(None, []), Bucket(1, 1, 1), Bucket(60, 1, 6),
+        Flow("a", 1, Lengths(1)), Fed("a", 1, Lengths(1), Bucket(1, 1, 1)), Link(1), Link(1, Flow("a", 1, Lengths(1))),
+        Play(Link(1), []), Arrival(0, "a", 1), Turn("a", 0, 0, (), 0, True), Sent("a", 0, 1, 0, 1, 1, 1),
+        BadName("a"), Grows(),
+    ]
+
+
+def is_integer(value):
+    return isinstance(value, int) and not isinstance(value, bool)
+
+
+def is_from(value, least, most):
+    return is_integer(value) and least <= value <= most
+
+
+def is_name(value):
+    return isinstance(value, str) and 1 <= len(value) <= 8 and all("a" <= letter <= "z" for letter in value)
+
+
+def other_values(is_meant):
+    """All values for which is_meant does not hold."""
+    return [value for value in any_values() if not is_meant(value)]
+
+
+def sums_up_to(numbers, most):
+    """The ascending list of all sums of some lengths up to a number, told by adding alone."""
+    found = [0]
+    for number in range(1, most + 1):
+        if any(number - length in found[-max(numbers):] for length in numbers):
+            found.append(number)
+    return found
+
+
+class Case(unittest.TestCase):
+    """A test case that looks at errors whole: at their very class and at all of their fields."""
+
+    def refuses(self, expected, work, *rows, **more):
+        with self.assertRaises(type(expected)) as caught:
+            work(*rows, **more)
+        self.assertIs(type(caught.exception), type(expected))
+        told, meant = vars(caught.exception), vars(expected)
+        self.assertEqual(told, meant)
+        for name in meant:
+            self.assertIs(type(told[name]), type(meant[name]))
+        return caught.exception
+
+    def same(self, one, other):
+        """Equal, and of one kind, so that True is not taken for 1."""
+        self.assertEqual(one, other)
+        self.assertIs(type(one), type(other))
