@@ -149,6 +149,12 @@ class FedSpread(Spread, Fed):
         return FedSpread(name, quantum, self.lengths.shortest, self.longest, self._bucket)
 
 
+def check_flow(value, part="flow"):
+    """Refuse any value that is no Flow; part is what it should be."""
+    if not isinstance(value, Flow):
+        raise BadFlow(part)
+
+
 def check_beginning(name, quantum):
     """Refuse what cannot begin a flow, ahead of all that is told behind it."""
     if not is_name(name):

@@ -45,7 +45,12 @@ def is_row(lengths, rest, row, parts):
         return parts is None
     if not is_integer(row) or row % lengths.shortest != rest or not is_parts(lengths, parts):
         return False
-    return row == sum([length * many for length, many in parts.items()])
+    return row == bits_of(parts)
+
+
+def bits_of(parts):
+    """The sum of lengths, each taken as many times as a dict tells."""
+    return sum([length * many for length, many in parts.items()])
 
 
 def is_parts(lengths, value):

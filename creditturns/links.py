@@ -70,14 +70,12 @@ class Link:
         return isinstance(name, str) and name in self._table
 
     def __getitem__(self, name):
-        if name not in self:
-            raise NoFlow(name)
+        check_name(self, name)
         return self._table[name]
 
     def others(self, name):
         """The tuple of the flows but this one."""
-        if name not in self:
-            raise NoFlow(name)
+        check_name(self, name)
         return tuple([flow for flow in self._flows if flow.name != name])
 
     def share(self, name):
@@ -119,6 +117,17 @@ class Link:
 
     def __str__(self):
         return "; ".join([f"gap {self._gap}", *[str(flow) for flow in self._flows]])
+
+
+def check_link(link):
+    if not isinstance(link, Link):
+        raise BadLink("link")
+
+
+def check_name(link, name):
+    """Refuse what is no name of a flow of the link."""
+    if name not in link:
+        raise NoFlow(name)
 
 
 def check_other(other):

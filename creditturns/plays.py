@@ -1,8 +1,8 @@
 """Plays: what a line does with some arrivals, from moment 0 until nothing waits."""
 
 from creditturns.checks import MOST_MOMENT, check_packets, is_within
-from creditturns.errors import BadArrivals, BadLink, BadNumber, NoFlow
-from creditturns.links import Link
+from creditturns.errors import BadArrivals, BadNumber
+from creditturns.links import check_link, check_name
 from creditturns.runs import Run
 
 
@@ -58,13 +58,12 @@ class Play:
     """What a line of a link does with a list or tuple of Arrivals."""
 
     def __init__(self, link, arrivals):
-        if not isinstance(link, Link):
-            raise BadLink("link")
+        check_link(link)
         check_arrivals(link, arrivals)
         run = run_of(link, arrivals)
         self._link = link
         self._arrivals = tuple(arrivals)
-        self._log = tuple([Turn(*row) for row in run.turns])
+        self._log = tuple([Turn(*row) for row in run.turns.written()])
         self._sent = tuple([Sent(*row) for row in run.sents])
         self._finish = run.moment
 
@@ -111,7 +110,7 @@ class Play:
 
     def comings(self, name):
         """The tuple of the pairs of a moment and a length of the arrivals of a flow."""
-        check_flow(self._link, name)
+        check_name(self._link, name)
         return tuple([(one.moment, one.length) for one in self._arrivals if one.name == name])
 
     def stretches(self, name):
@@ -126,7 +125,7 @@ class Play:
 
     def _packets(self, name):
         """The Sents of a flow, whose packets end in the order of their numbers."""
-        check_flow(self._link, name)
+        check_name(self._link, name)
         return [packet for packet in self._sent if packet.name == name]
 
     def _packet(self, name, number):
@@ -134,11 +133,6 @@ class Play:
         if not is_within(number, 0, len(packets) - 1):
             raise BadNumber(number)
         return packets[number]
-
-
-def check_flow(link, name):
-    if name not in link:
-        raise NoFlow(name)
 
 
 def check_arrivals(link, arrivals):

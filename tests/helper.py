@@ -5,11 +5,15 @@ import unittest
 from creditturns.buckets import Bucket
 from creditturns.errors import BadName, Grows
 from creditturns.flows import Fed, Flow
+from creditturns.keeps import Lead
 from creditturns.leasts import Leasts
 from creditturns.lengths import Lengths
+from creditturns.lines import Line
 from creditturns.links import Link
+from creditturns.mosts import Least, Most
 from creditturns.plays import Arrival, Play, Sent, Turn
 from creditturns.ratios import Ratio
+from creditturns.waits import Latest
 
 
 def any_values():
@@ -25,6 +29,7 @@ def any_values():
         Leasts((0,), ({},)), Leasts(None, []), Bucket(1, 1, 1), Bucket(60, 1, 6),
         Flow("a", 1, Lengths(1)), Fed("a", 1, Lengths(1), Bucket(1, 1, 1)), Link(1), Link(1, Flow("a", 1, Lengths(1))),
         Play(Link(1), []), Arrival(0, "a", 1), Turn("a", 0, 0, (), 0, True), Sent("a", 0, 1, 0, 1, 1, 1),
+        Line(Link(1)), Lead(0, ()), Most(0, 0, {}), Least(0, 0, {}), Latest(1, 1, {}),
         BadName("a"), Grows(),
     ]
 
@@ -67,6 +72,29 @@ class Case(unittest.TestCase):
         for name in meant:
             self.assertIs(type(told[name]), type(meant[name]))
         return caught.exception
+
+    def keeps_any_values(self, made, fields):
+        """A paper keeps the very values that it is made of, by position and by name."""
+        for value in any_values():
+            values = [value] + [[field] for field in fields[1:]]
+            for paper in (made(*values), made(**dict(zip(fields, values)))):
+                for field, kept in zip(fields, values):
+                    self.assertIs(getattr(paper, field), kept)
+
+    def compares_as_a_paper(self, made, fields):
+        """A paper equals those of its class with attributes that Python finds equal, and nothing else."""
+        values = list(range(len(fields)))
+        self.assertIs(made(*values) == made(*values), True)
+        self.assertIs(made(*values) != made(*values), False)
+        self.assertTrue(made(*values) == made(*[Ratio(value) for value in values]))
+        self.assertTrue(made(False, True, *values[2:]) == made(*values))
+        for at in range(len(fields)):
+            others = values[:at] + ["other"] + values[at + 1:]
+            self.assertIs(made(*values) == made(*others), False)
+            self.assertIs(made(*values) != made(*others), True)
+        for value in any_values():
+            self.assertIs(made(*values) == value, False)
+            self.assertIs(value == made(*values), False)
 
     def same(self, one, other):
         """Equal, and of one kind, so that True is not taken for 1."""

@@ -22,8 +22,9 @@ class Examples(unittest.TestCase):
     def test_all_examples(self):
         names = {}
         files = sorted(os.listdir(FOLDER))
-        self.assertEqual([name[2:-4] for name in files],
-                         ["ratios", "lengths", "leasts", "buckets", "flows", "links", "plays"])
+        self.assertEqual([name[3:-4] for name in files],
+                         ["ratios", "lengths", "leasts", "buckets", "flows", "links", "plays", "lines", "keeps",
+                          "mosts"])
         for name in files:
             with open(os.path.join(FOLDER, name), encoding="ascii") as file:
                 steps = list(steps_of(file.read()))
@@ -42,7 +43,7 @@ class Examples(unittest.TestCase):
 
     def look_at_error(self, code, told, names):
         with self.assertRaises(Exception) as caught:
-            eval(code, names)
+            exec(code, names)
         self.assertEqual(type(caught.exception).__name__, told.split("(")[0])
         if "(" in told:
             self.assertEqual(vars(caught.exception), vars(eval(told, dict(vars(errors)))))

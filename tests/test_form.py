@@ -17,13 +17,17 @@ PLAIN = (ast.FunctionDef, ast.ClassDef, ast.ImportFrom, ast.Assign, ast.Expr)
 INTERFACE = {
     "ratios": ["Ratio"], "lengths": ["Lengths"], "leasts": ["Leasts", "leasts", "shows_leasts"],
     "buckets": ["Bucket"], "flows": ["Flow", "Single", "Spread", "Fed", "FedSingle", "FedSpread"],
-    "links": ["Link"], "plays": ["Arrival", "Turn", "Sent", "Play"],
+    "links": ["Link"], "plays": ["Arrival", "Turn", "Sent", "Play"], "lines": ["Line"],
+    "keeps": ["Lead", "keeps", "lead", "shows_lead"], "waits": ["Latest", "latest"],
+    "mosts": ["Most", "Least", "most", "least", "shows_most", "shows_least"],
 }
 METHODS = {
     "Ratio": "over ceiling read", "Lengths": "of between read floor ceiling has taken numbers shortest longest "
     "divisor conductor", "Bucket": "earliest rate_of fits lets read", "Flow": "longest step fewest turn_of is_regular "
     "round_of with_quantum renamed read", "Fed": "bucket", "Link": "gap names cycle others share with_gap read",
     "Play": "link arrivals log sent finish ended_at delay comings stretches",
+    "Line": "put go run each_turn link now arrivals log sent order busy waiting credit_of set_quantum leave undo deeds "
+    "trial tried attempt twin",
 }
 
 
@@ -114,7 +118,7 @@ class Form(unittest.TestCase):
             self.assertLessEqual(set(told), used, name)
 
     def test_no_statement_or_expression_outside_the_language(self):
-        kinds = (ast.Global, ast.AsyncFunctionDef, ast.AsyncFor, ast.AsyncWith, ast.Await, ast.Try, ast.Set,
+        kinds = (ast.Global, ast.AsyncFunctionDef, ast.AsyncFor, ast.AsyncWith, ast.Await, ast.ExceptHandler, ast.Set,
                  ast.SetComp, ast.GeneratorExp, ast.AnnAssign, ast.Div, ast.MatMult, ast.Lambda, ast.Delete)
         for name, node in walk(kinds):
             self.fail((name, node.lineno))

@@ -9,6 +9,7 @@ from creditturns.links import Link
 from creditturns.plays import Arrival, Play, Sent, Turn
 from creditturns.ratios import Ratio
 from tests.helper import Case, any_values, is_from, other_values
+from tests.plain import log_of, play_out, sent_of
 
 A, B = Single("a", 1, 1), Single("b", 2, 3)
 DUO = Link(1, A, B)
@@ -20,84 +21,12 @@ def arrivals_of(text):
     return [Arrival(int(moment), name, int(length)) for moment, name, length in rows]
 
 
-def log_of(play):
-    return [(turn.name, turn.moment, turn.credit, turn.lengths, turn.rest, turn.is_left) for turn in play.log]
-
-
-def sent_of(play):
-    return [(one.name, one.number, one.length, one.came, one.ended, one.turn, one.bits) for one in play.sent]
-
-
-class TickByTick:
-    """A line that goes on by single ticks, in the order of one moment that the document tells."""
-
-    def __init__(self, link, arrivals):
-        self.link, self.arrivals = link, list(arrivals)
-        self.queues = {flow.name: [] for flow in link}
-        self.credits = {flow.name: 0 for flow in link}
-        self.numbers = {flow.name: 0 for flow in link}
-        self.places = {}
-        self.order, self.turn, self.log, self.sent, self.finish, self.orders = [], None, [], [], 0, []
-        moment = 0
-        while self.arrivals or self.turn or self.order:
-            self.end(moment)
-            self.arrive(moment)
-            if self.turn is None and self.order:
-                self.begin(moment)
-            moment += 1
-
-    def begin(self, moment):
-        name = self.order.pop(0)
-        self.places[name][0] += 1
-        self.turn = {"name": name, "moment": moment, "credit": self.credits[name], "lengths": [],
-                     "left": self.link.gap, "sending": False}
-
-    def end(self, moment):
-        if self.turn is None:
-            return
-        self.turn["left"] -= 1
-        if self.turn["left"]:
-            return
-        name = self.turn["name"]
-        queue = self.queues[name]
-        if self.turn["sending"]:
-            number, length, came = queue.pop(0)
-            self.credits[name] -= length
-            self.places[name][1] += length
-            self.turn["lengths"].append(length)
-            self.sent.append((name, number, length, came, moment, *self.places[name]))
-        else:
-            self.credits[name] += self.link[name].quantum
-        if queue and queue[0][1] <= self.credits[name]:
-            self.turn["sending"], self.turn["left"] = True, queue[0][1]
-        else:
-            self.close(moment, name, queue)
-
-    def close(self, moment, name, queue):
-        if queue:
-            self.order.append(name)
-        else:
-            self.credits[name] = 0
-        self.log.append((name, self.turn["moment"], self.turn["credit"], tuple(self.turn["lengths"]),
-                         self.credits[name], not queue))
-        self.turn, self.finish = None, moment
-
-    def arrive(self, moment):
-        while self.arrivals and self.arrivals[0].moment == moment:
-            one = self.arrivals.pop(0)
-            if one.name not in self.order and not (self.turn and self.turn["name"] == one.name):
-                self.order.append(one.name)
-                self.places[one.name] = [0, 0]
-            self.queues[one.name].append((self.numbers[one.name], one.length, moment))
-            self.numbers[one.name] += 1
-
-
 class ByHand(Case):
 
     def look(self, link, text, log, sent):
         play = Play(link, arrivals_of(text))
-        self.assertEqual(log_of(play), log)
-        self.assertEqual(sent_of(play), sent)
+        self.assertEqual(log_of(play.log), log)
+        self.assertEqual(sent_of(play.sent), sent)
         self.assertIs(type(play.log), tuple)
         self.assertIs(type(play.sent), tuple)
         self.assertTrue(all(type(turn) is Turn and type(turn.lengths) is tuple for turn in play.log))
@@ -204,10 +133,10 @@ class BesideTickByTick(Case):
         return found
 
     def look(self, link, arrivals):
-        play, plain = Play(link, arrivals), TickByTick(link, arrivals)
-        self.assertEqual(log_of(play), plain.log)
-        self.assertEqual(sent_of(play), plain.sent)
-        self.assertEqual(play.finish, plain.finish)
+        play, plain = Play(link, arrivals), play_out(link, arrivals)
+        self.assertEqual(log_of(play.log), plain.log)
+        self.assertEqual(sent_of(play.sent), plain.sent)
+        self.assertEqual(play.finish, plain.now)
         self.look_at_papers(play)
         # Further packets at the very moments at which something ends.
         if len(arrivals) < 40 and play.log:
@@ -377,26 +306,11 @@ class Papers(Case):
 
     def test_any_values_are_kept(self):
         for made, fields in self.FIELDS.items():
-            for value in any_values():
-                values = [value] + [[field] for field in fields[1:]]
-                for paper in (made(*values), made(**dict(zip(fields, values)))):
-                    for field, kept in zip(fields, values):
-                        self.assertIs(getattr(paper, field), kept)
+            self.keeps_any_values(made, fields)
 
     def test_equality(self):
         for made, fields in self.FIELDS.items():
-            values = list(range(len(fields)))
-            self.assertTrue(made(*values) == made(*values))
-            self.assertFalse(made(*values) != made(*values))
-            self.assertTrue(made(*values) == made(*[Ratio(value) for value in values]))
-            self.assertTrue(made(False, True, *values[2:]) == made(*values))
-            for at in range(len(fields)):
-                others = values[:at] + ["other"] + values[at + 1:]
-                self.assertIs(made(*values) == made(*others), False)
-                self.assertIs(made(*values) != made(*others), True)
-            for value in any_values():
-                self.assertIs(made(*values) == value, False)
-                self.assertIs(value == made(*values), False)
+            self.compares_as_a_paper(made, fields)
 
     def test_papers_of_other_classes_are_not_equal(self):
         self.assertFalse(Arrival(0, 0, 0) == Turn(0, 0, 0, 0, 0, 0))
