@@ -22,6 +22,10 @@ class Lengths:
         table = least_sums(self._numbers)
         self._rows = table[0]
         self._lasts = table[1]
+        self._divisor = divisor_of(self._numbers)
+        # A row less the shortest length is the greatest number with its rest that is no sum.
+        greatest = max([int(row) for row in self._rows if row is not None])
+        self._conductor = greatest - self._numbers[0] + self._divisor
 
     @classmethod
     def of(cls, numbers):
@@ -62,16 +66,11 @@ class Lengths:
 
     @property
     def divisor(self):
-        found = 0
-        for number in self._numbers:
-            found = gcd(found, number)
-        return found
+        return self._divisor
 
     @property
     def conductor(self):
-        # A row less the shortest length is the greatest number with its rest that is no sum.
-        greatest = max([int(row) for row in self._rows if row is not None])
-        return greatest - self.shortest + self.divisor
+        return self._conductor
 
     def __iter__(self):
         return iter(self._numbers)
@@ -120,6 +119,9 @@ class Lengths:
     def floor(self, number):
         """The greatest sum that is at most this integer from 0 on."""
         check_count(number)
+        # From the conductor on the sums are the multiples of the divisor.
+        if number >= self._conductor:
+            return number - number % self._divisor
         found = number
         while not self.has(found):
             found -= 1
@@ -129,6 +131,8 @@ class Lengths:
         """The least sum that is at least this integer."""
         if not is_integer(number):
             raise BadNumber(number)
+        if number >= self._conductor:
+            return number + -number % self._divisor
         found = max(0, number)
         while not self.has(found):
             found += 1
@@ -148,6 +152,14 @@ class Lengths:
             parts[length] = parts.get(length, 0) + 1
             rest = (rest - length) % self.shortest
         return parts
+
+
+def divisor_of(numbers):
+    """The greatest common divisor of some numbers."""
+    found = 0
+    for number in numbers:
+        found = gcd(found, number)
+    return found
 
 
 def is_length(value):

@@ -2,7 +2,9 @@
 
 import unittest
 
+from creditturns.aparts import Apart, Widest
 from creditturns.buckets import Bucket
+from creditturns.delays import Delay, Growing
 from creditturns.errors import BadName, Grows
 from creditturns.flows import Fed, Flow
 from creditturns.keeps import Lead
@@ -14,6 +16,7 @@ from creditturns.mosts import Least, Most
 from creditturns.plays import Arrival, Play, Sent, Turn
 from creditturns.ratios import Ratio
 from creditturns.waits import Latest
+from creditturns.worsts import Worst
 
 
 def any_values():
@@ -30,6 +33,7 @@ def any_values():
         Flow("a", 1, Lengths(1)), Fed("a", 1, Lengths(1), Bucket(1, 1, 1)), Link(1), Link(1, Flow("a", 1, Lengths(1))),
         Play(Link(1), []), Arrival(0, "a", 1), Turn("a", 0, 0, (), 0, True), Sent("a", 0, 1, 0, 1, 1, 1),
         Line(Link(1)), Lead(0, ()), Most(0, 0, {}), Least(0, 0, {}), Latest(1, 1, {}),
+        Worst(None, 7), Delay(7, 7), Growing(7, 7, 7, 7), Apart(7, 7, Ratio(7)), Widest(None, 7, 7),
         BadName("a"), Grows(),
     ]
 

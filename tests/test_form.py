@@ -19,7 +19,9 @@ INTERFACE = {
     "buckets": ["Bucket"], "flows": ["Flow", "Single", "Spread", "Fed", "FedSingle", "FedSpread"],
     "links": ["Link"], "plays": ["Arrival", "Turn", "Sent", "Play"], "lines": ["Line"],
     "keeps": ["Lead", "keeps", "lead", "shows_lead"], "waits": ["Latest", "latest"],
-    "mosts": ["Most", "Least", "most", "least", "shows_most", "shows_least"],
+    "mosts": ["Most", "Least", "most", "least", "shows_most", "shows_least"], "worsts": ["Worst", "worst"],
+    "services": ["until", "service"], "delays": ["Delay", "Growing", "delay", "growing"],
+    "aparts": ["Apart", "Widest", "apart", "widest"],
 }
 METHODS = {
     "Ratio": "over ceiling read", "Lengths": "of between read floor ceiling has taken numbers shortest longest "
