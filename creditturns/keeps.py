@@ -36,7 +36,7 @@ def shows_lead(flow, credit, value):
     if not isinstance(value, Lead) or not is_count(value.turns) or not is_rows(flow, value.packets):
         return False
     packets = [length for row in value.packets for length in row]
-    if len(value.packets) != value.turns or sum(packets) != value.turns * flow.quantum - credit:
+    if sum(packets) != value.turns * flow.quantum - credit:
         return False
     return value.packets == placed(flow, value.turns, packets)
 

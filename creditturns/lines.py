@@ -101,7 +101,7 @@ class Line:
         return self._state.lanes[name].credit
 
     def __contains__(self, name):
-        return isinstance(name, str) and self._state.is_waiting(name)
+        return self._state.is_waiting(name)
 
     def __len__(self):
         return len([packet for lane in self._state.lanes.values() for packet in lane.queue])

@@ -86,6 +86,11 @@ class Delays(Case):
             self.assertRaises(Grows, delay, DUO, "a", above)
             self.assertIsInstance(growing(DUO, "a", above), Growing)
 
+    def test_a_greatest_delay_in_the_first_turn(self):
+        self.assertEqual(delay(Link(3, Single("a", 10, 1)), "a", Bucket(5, 1, 1000)), Delay(8, 5))
+        self.assertEqual(delay(Link(3, Single("a", 10, 1)), "a", Bucket(10, 1, 1000)), Delay(13, 10))
+        self.assertEqual(delay(Link(3, Single("a", 10, 1)), "a", Bucket(11, 1, 1000)), Delay(17, 11))
+
     def test_the_least_bits_with_the_greatest_delay(self):
         # 6, 12, 10, 11, 12, 10 and so on: 12 comes again with each round.
         self.assertEqual(delay(DUO, "a", Bucket(2, 1, 5)).bits, 2)
@@ -166,6 +171,12 @@ class Bounds(Case):
         self.look(Link(1, A), "a", Bucket(19500, 499, 998), 20000)
         self.look(Link(1, A), "a", Bucket(19500, 500, 1000), 20001)
 
+    def test_by_a_rate_that_shares_a_divisor_with_the_quantum(self):
+        self.look(Link(1, Single("a", 10, 1)), "a", Bucket(19980, 10, 11), 20000)
+        self.look(Link(1, Single("a", 10, 1)), "a", Bucket(19981, 10, 11), 20010)
+        self.look(Link(1, Single("a", 10, 4)), "a", Bucket(19930, 15, 100), 20000)
+        self.look(Link(1, Single("a", 10, 4)), "a", Bucket(19931, 15, 100), 20010)
+
     def test_by_the_divisor(self):
         self.look(Link(1, Single("a", 1, 10)), "a", Bucket(19989, 1, 90), 20000)
         self.look(Link(1, Single("a", 1, 10)), "a", Bucket(19990, 1, 90), 20001)
@@ -178,6 +189,10 @@ class Bounds(Case):
         self.look(Link(1, Flow("a", 1, Lengths(59, 60))), "a", Bucket(60, 1, 9), 3422 + 2)
 
     def test_by_the_others(self):
+        # The flow d is regular from the turn 1712 on: 2 * 1712 is above its conductor, 3422.
+        even = Flow("d", 2, Lengths(59, 60))
+        self.look(Link(1, Single("a", 8, 1), even, Single("e", 1, 4)), "a", Bucket(197, 197, 345), (1712 + 788) * 8)
+        self.look(Link(1, Single("a", 8, 1), even, Single("e", 1, 3)), "a", Bucket(263, 263, 461), (1712 + 789) * 8)
         slow = Flow("d", 1, Lengths(59, 60))
         self.look(Link(1, Single("a", 5, 1), slow), "a", Bucket(60, 1, 9), (3423 + 1) * 5)
         self.look(Link(1, Single("a", 6, 1), slow), "a", Bucket(60, 1, 9), (3423 + 1) * 6)

@@ -96,6 +96,7 @@ class ByHand(LineCase):
         self.same(line.run(), 0)
         self.same(line.now, 30)
         self.same(line.credit_of(name="b"), 0)
+        self.assertEqual(line.waiting(name="b"), ())
         self.same(len(line), 0)
         self.same(line.deeds, 6)
 

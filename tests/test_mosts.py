@@ -49,6 +49,7 @@ class Papers(Case):
         self.assertTrue(turns == 0 or flow.longest in top.parts)
         self.assertEqual((most(turns=turns, flow=flow), least(turns=turns, flow=flow)), (top, low))
         self.assertIs(shows_most(flow, turns, top), True)
+        self.assertIs(shows_most(value=low, turns=turns, flow=flow), False)
         self.assertIs(shows_least(value=low, turns=turns, flow=flow), True)
 
     def test_against_all_rows_of_turns(self):
