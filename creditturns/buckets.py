@@ -64,7 +64,7 @@ class Bucket:
         begin = comings[first][0]
         bits = 0
         for moment, length in comings[first:]:
-            bits += length
+            bits = bits + length
             if bits > bound_of(self, moment - begin):
                 return False
         return True

@@ -68,7 +68,7 @@ def placed(flow, turns, packets):
     rows = [[] for _ in range(turns)]
     bits = 0
     for length in packets:
-        bits += length
+        bits = bits + length
         rows[flow.turn_of(bits) - 1].append(length)
     return tuple([tuple(row) for row in rows])
 

@@ -146,7 +146,7 @@ class Run:
         if visit.is_sending:
             self._end_packet(visit, lane)
         else:
-            lane.credit += visit.quantum
+            lane.credit = lane.credit + visit.quantum
         if len(lane.queue) > 0 and lane.queue[0][1] <= lane.credit:
             visit.is_sending = True
             visit.until = self.moment + lane.queue[0][1]
@@ -156,8 +156,8 @@ class Run:
     def _end_packet(self, visit, lane):
         number, length, came = lane.queue[0]
         lane.queue = lane.queue[1:]
-        lane.credit -= length
-        lane.bits += length
+        lane.credit = lane.credit - length
+        lane.bits = lane.bits + length
         visit.lengths = visit.lengths + (length,)
         self.sents = self.sents + ((visit.name, number, length, came, self.moment, lane.turns, lane.bits),)
 

@@ -37,9 +37,13 @@ def joinings_of(link, rushes, name, packets):
     joinings = []
     moment = 0
     for left in range(max([len(one.ahead) for one in rushes], default=0), 0, -1):
-        joinings += [(moment, one.name, one.packets) for one in rushes if len(one.ahead) == left]
+        joinings = joinings + joined_at(moment, rushes, left)
         # In a round each flow that has joined has one turn.
         rows = [one.ahead[-left] for one in rushes if len(one.ahead) >= left]
-        moment += sum([ticks_of_turn(link, row) for row in rows])
-    joinings += [(moment, one.name, one.packets) for one in rushes if len(one.ahead) == 0]
-    return [*joinings, (moment, name, packets)]
+        moment = moment + sum([ticks_of_turn(link, row) for row in rows])
+    return [*joinings, *joined_at(moment, rushes, 0), (moment, name, packets)]
+
+
+def joined_at(moment, rushes, left):
+    """The joinings at a moment of the flows that have so many turns left ahead of their rush."""
+    return [(moment, one.name, one.packets) for one in rushes if len(one.ahead) == left]

@@ -133,6 +133,15 @@ class Form(unittest.TestCase):
                 if isinstance(sign, (ast.Is, ast.IsNot)):
                     self.assertTrue(isinstance(right, ast.Constant) and right.value is None, (name, node.lineno))
 
+    def test_what_is_added_is_not_what_is_changed(self):
+        # Of what stands in the code alone, anything else could be a list that walks over itself.
+        for name, node in walk(ast.AugAssign):
+            self.assertIsInstance(node.value, ast.Constant, (name, node.lineno))
+        for name, node in walk(ast.Call):
+            if isinstance(node.func, ast.Attribute) and node.func.attr in ("extend", "update"):
+                fresh = isinstance(node.args[0], ast.Call) and node.args[0].func.id in ("list", "dict")
+                self.assertTrue(fresh or isinstance(node.args[0], (ast.List, ast.ListComp)), (name, node.lineno))
+
     def test_decorators(self):
         for name, node in walk((ast.FunctionDef, ast.ClassDef)):
             for one in node.decorator_list:
