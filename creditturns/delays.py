@@ -6,7 +6,7 @@ from creditturns.buckets import Bucket
 from creditturns.errors import BadBucket, BadFlow, Grows, Round, TooMany
 from creditturns.flows import Fed
 from creditturns.links import check_link
-from creditturns.rounds import first_regular, shared_round
+from creditturns.rounds import first_regular, mosts_between, shared_round, sums_between
 from creditturns.waits import ticks_of_others
 
 MOST_BITS = 20000
@@ -97,13 +97,42 @@ def turns_to_look_at(link, name, bucket):
 
 
 def greatest_delay(link, name, bucket, turns):
-    """The Delay over all sums of the first turns."""
+    """The Delay over all sums of the first turns, where the delays have a bound."""
     flow = link[name]
-    best = None
-    for turn in range(1, turns + 1):
-        waits = ticks_of_others(link, name, turn)
-        for bits in range((turn - 1) * flow.quantum + 1, turn * flow.quantum + 1):
-            ticks = bits + waits - bucket.earliest(bits)
-            if flow.lengths.has(bits) and (best is None or ticks > best.ticks):
-                best = Delay(ticks, bits)
-    return best
+    burst, rate, every, quantum = bucket.burst, bucket.rate, bucket.every, flow.quantum
+    # Up to the burst the delay grows with the sum: the last one there is ahead of all below it.
+    bits = flow.lengths.floor(burst)
+    ticks = delay_at(link, name, bucket, bits)
+    first = flow.turn_of(burst + 1)
+    last = min(int(turns), last_turn_above(link, name, bucket, turns, ticks))
+    waits = waits_between(link, name, first, last)
+    for number in sums_between(flow.lengths, burst + 1, last * quantum):
+        # The quotient is minus what Bucket.earliest tells of so many bits.
+        found = number + waits[(number - 1) // quantum + 1 - first] + (burst - number) // rate * every
+        if found > ticks:
+            ticks, bits = found, number
+    return Delay(ticks, bits)
+
+
+def waits_between(link, name, first, last):
+    """The list of the ticks_of_others of a flow for each number of turns from first to last."""
+    changes = len(link) * link.gap
+    rows = [list(range(first * changes, last * changes + 1, changes))]
+    for other in link.others(name):
+        rows.append(mosts_between(other, first, last))
+    return [sum(row) for row in zip(*rows)]
+
+
+def last_turn_above(link, name, bucket, turns, ticks):
+    """A turn, turns if none is known, behind which no delay of more bits than the burst is above so many ticks.
+
+    W(p) of a flow is at most pQ + L - 1, and what comes by the bucket is at most its rate; so rate times a delay
+    in the turn p is at most a number that falls by the same with each turn.
+    """
+    quantum = link[name].quantum
+    fall = bucket.every * quantum - bucket.rate * link.cycle
+    if fall == 0:
+        return turns
+    slack = sum([other.longest - 1 for other in link.others(name)])
+    begin = bucket.every * bucket.burst + (bucket.every - bucket.rate) * (quantum - 1) + bucket.rate * slack
+    return (begin - bucket.rate * ticks - 1) // fall

@@ -201,6 +201,83 @@ class Bounds(Case):
         self.look(Link(1, Single("a", 1, 1), Single("d", 1, 49), Single("e", 3, 50)), "a", Bucket(17550, 1, 20), 20001)
 
 
+def floors_of(numbers, most):
+    """The floor of each number from 0 to most, told by adding alone."""
+    is_sum, floors = [True], [0]
+    for number in range(1, most + 1):
+        is_sum.append(any(length <= number and is_sum[number - length] for length in numbers))
+        floors.append(number if is_sum[-1] else floors[-1])
+    return floors
+
+
+def delay_of_all_sums(link, name, bucket, whole):
+    """The greatest delay over all sums up to whole bits, without any function of the package."""
+    flow = link[name]
+    turns = whole // flow.quantum
+    waits = [turn * len(link) * link.gap for turn in range(turns + 1)]
+    for other in link.others(name):
+        floors = floors_of(other.lengths.numbers, turns * other.quantum)
+        for turn in range(1, turns + 1):
+            waits[turn] += other.longest + floors[turn * other.quantum - 1]
+    best = None
+    for bits, floor in enumerate(floors_of(flow.lengths.numbers, whole)):
+        if bits == floor > 0:
+            later = max(0, bits - bucket.burst)
+            ticks = bits + waits[-(-bits // flow.quantum)] - -(-later // bucket.rate) * bucket.every
+            if best is None or ticks > best.ticks:
+                best = Delay(ticks, bits)
+    return best
+
+
+class AnswersAtTheBound(Case):
+
+    def look(self, link, name, bucket):
+        turns, further = turns_of_bound(link, name, bucket)
+        self.assertEqual((turns + further) * link[name].quantum, 20000)
+        self.assertTrue(has_bound(link, name, bucket))
+        found = delay(link, name, bucket)
+        self.assertEqual(found, delay_of_all_sums(link, name, bucket, 20000))
+        self.same(found.ticks, int(found.ticks))
+        self.same(found.bits, int(found.bits))
+
+    def test_by_hand(self):
+        trio = Link(5, Flow("a", 1, Lengths(2, 5)), Flow("b", 3, Lengths(4, 6)), Flow("c", 7, Lengths(1, 2, 3)))
+        found = delay(trio, "a", Bucket(19900, 1, 26))
+        self.assertEqual(found, Delay(517407, 19901))
+        self.assertEqual(found, delay_of_all_sums(trio, "a", Bucket(19900, 1, 26), 19902))
+        self.assertEqual(delay(Link(1, A), "a", Bucket(19998, 1, 2)), Delay(39996, 19998))
+        self.look(Link(1, A), "a", Bucket(19998, 1, 2))
+
+    def test_one_to_four_flows(self):
+        told = random.Random(31)
+        for many in (1, 2, 3, 4):
+            for quantum in (1, 1, 2, 4, 5):
+                flows = [Flow("abcd"[at], told.choice((1, 2, 3)), Lengths(*told.choice(((1,), (2, 3), (4, 6), (5,)))))
+                         for at in range(many)]
+                link = Link(told.choice((1, 4)), *flows) | flows[0].with_quantum(quantum)
+                rate = told.choice((1, 2, 3))
+                every = -(-rate * link.cycle // quantum) + told.choice((0, 1))
+                _, further = turns_of_bound(link, "a", Bucket(500, rate, every))
+                self.look(link, "a", Bucket(20000 - (further + 1) * quantum, rate, every))
+
+    def test_long_rounds_ahead_of_which_little_comes(self):
+        # Nothing is later than with the burst alone, or only far behind it.
+        self.look(Link(1, A, Single("d", 1, 49), Single("e", 3, 50)), "a", Bucket(17549, 1, 8))
+        self.look(Link(1, A, Single("d", 1, 49), Single("e", 3, 50)), "a", Bucket(17549, 1, 9))
+        self.look(Link(1, A), "a", Bucket(19500, 499, 998))
+        self.look(Link(1, Single("a", 10, 1)), "a", Bucket(19980, 10, 11))
+        self.look(Link(1, Single("a", 10, 4)), "a", Bucket(19930, 15, 17))
+
+    def test_a_greatest_delay_far_behind_the_burst(self):
+        rounds = Link(1, A, Single("d", 1, 53), Single("e", 1, 59))
+        found = delay(rounds, "a", Bucket(5, 5, 30))
+        self.assertEqual(found, Delay(140, 6255))
+        self.assertEqual(found, delay_of_all_sums(rounds, "a", Bucket(5, 5, 30), 15641))
+        irregular = rounds | Flow("f", 1, Lengths(59, 60)) | Flow("g", 1, Lengths(58, 59))
+        for bucket in (Bucket(5, 5, 50), Bucket(5, 5, 51)):
+            self.assertEqual(delay(irregular, "a", bucket), delay_of_all_sums(irregular, "a", bucket, 19058))
+
+
 class Growings(Case):
 
     def look(self, link, name, bucket):
