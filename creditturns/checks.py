@@ -29,6 +29,15 @@ def is_name(value):
     return value.isascii() and value.isalpha() and value.islower()
 
 
+def is_just(value, right):
+    """Whether any value is the right one of its very kind: None, an integer, or a tuple of such."""
+    if isinstance(right, tuple):
+        if not isinstance(value, tuple) or len(value) != len(right):
+            return False
+        return all([is_just(one, other) for one, other in zip(value, right)])
+    return value is None if right is None else is_integer(value) and value == right
+
+
 def check_count(value):
     if not is_count(value):
         raise BadNumber(value)

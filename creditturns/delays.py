@@ -6,8 +6,8 @@ from creditturns.buckets import Bucket
 from creditturns.errors import BadBucket, BadFlow, Grows, Round, TooMany
 from creditturns.flows import Fed
 from creditturns.links import check_link
-from creditturns.rounds import first_regular, mosts_between, shared_round, sums_between
-from creditturns.waits import ticks_of_others
+from creditturns.rounds import first_regular, first_regular_behind, shared_round, sums_between
+from creditturns.waits import latest_ticks, waits_between
 
 MOST_BITS = 20000
 
@@ -83,15 +83,14 @@ def growing_of(link, name, bucket):
 
 def delay_at(link, name, bucket, bits):
     """The greatest delay of a packet that ends at this bit of its stretch."""
-    return bits + ticks_of_others(link, name, link[name].turn_of(bits)) - bucket.earliest(bits)
+    return latest_ticks(link, name, bits) - bucket.earliest(bits)
 
 
 def turns_to_look_at(link, name, bucket):
     """A number of turns in one of which the greatest delay is reached, if there is one."""
     flow = link[name]
     others = link.others(name)
-    ahead = max(int(flow.lengths.conductor), int(bucket.burst))
-    first = max(int(first_regular(others)), int(-(-ahead // flow.quantum) + 1))
+    first = first_regular_behind(others, flow, max(int(flow.lengths.conductor), int(bucket.burst)))
     common = lcm(flow.lengths.divisor, bucket.rate)
     return first + lcm(shared_round(others), common // gcd(common, flow.quantum))
 
@@ -112,15 +111,6 @@ def greatest_delay(link, name, bucket, turns):
         if found > ticks:
             ticks, bits = found, number
     return Delay(ticks, bits)
-
-
-def waits_between(link, name, first, last):
-    """The list of the ticks_of_others of a flow for each number of turns from first to last."""
-    changes = len(link) * link.gap
-    rows = [list(range(first * changes, last * changes + 1, changes))]
-    for other in link.others(name):
-        rows.append(mosts_between(other, first, last))
-    return [sum(row) for row in zip(*rows)]
 
 
 def last_turn_above(link, name, bucket, turns, ticks):

@@ -1,12 +1,12 @@
 """Lines that are led on step by step, and can be taken back."""
 
 from creditturns.checks import MOST_MOMENT, MOST_PACKETS, check_count
-from creditturns.errors import BadLink, BadNumber, NoDeed, TooMany, Waiting
+from creditturns.errors import BadLink, BadNumber, TooMany, Waiting
 from creditturns.flows import Flow
 from creditturns.links import check_link, check_name
 from creditturns.plays import Arrival, Sent, Turn
 from creditturns.runs import Run
-from creditturns.trials import Trial
+from creditturns.trials import Trial, attempt_work, take_back, try_work, write_deed
 
 
 class Line:
@@ -59,7 +59,7 @@ class Line:
             raise TooMany("packets", MOST_PACKETS)
         state = self._state.twin()
         number = state.put(name, length)
-        self._keep("put", state)
+        write_deed(self, "put", state)
         return number
 
     def go(self, ticks):
@@ -69,7 +69,7 @@ class Line:
         state = self._state.twin()
         ahead = len(state.sents)
         state.go_to(state.moment + ticks)
-        self._keep("go", state)
+        write_deed(self, "go", state)
         return tuple([Sent(*row) for row in state.sents[ahead:]])
 
     def run(self):
@@ -78,7 +78,7 @@ class Line:
         begin = state.moment
         state.run_out()
         check_moment(state.moment)
-        self._keep("run", state)
+        write_deed(self, "run", state)
         return state.moment - begin
 
     def each_turn(self):
@@ -87,7 +87,7 @@ class Line:
             state = self._state.twin()
             state.end_turn()
             check_moment(state.moment)
-            self._keep("turn", state)
+            write_deed(self, "turn", state)
             row = state.turns.last()
             yield Turn(*row)
 
@@ -136,11 +136,7 @@ class Line:
 
     def undo(self):
         """Take back the last deed; its word."""
-        if len(self._past) == 0:
-            raise NoDeed()
-        word, state = self._past.pop()
-        self._state = state
-        return word
+        return take_back(self)
 
     def trial(self):
         """A block behind which the line is as ahead of it."""
@@ -148,22 +144,11 @@ class Line:
 
     def tried(self, work):
         """What work returns for this line, which then is as ahead of it."""
-        with self.trial() as same:
-            return work(same)
+        return try_work(self, work)
 
     def attempt(self, work):
         """What work returns for this line, which is as ahead of it if an error leaves it."""
-        state = self._state
-        past = list(self._past)
-        done = None
-        try:
-            answer = work(self)
-            done = True
-        finally:
-            if done is None:
-                self._state = state
-                self._past = past
-        return answer
+        return attempt_work(self, work)
 
     def twin(self):
         """An equal line without deeds that goes its own way."""
@@ -174,15 +159,10 @@ class Line:
     def __eq__(self, other):
         return isinstance(other, Line) and self._state.picture() == other._state.picture()
 
-    def _keep(self, word, state):
-        """A deed is done: from now on the line stands as it left it."""
-        self._past.append((word, self._state))
-        self._state = state
-
     def _rewire(self, word, link):
         state = self._state.twin()
         state.rewire(link)
-        self._keep(word, state)
+        write_deed(self, word, state)
 
     def _check_idle(self, name):
         if name in self:

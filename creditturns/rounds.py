@@ -8,6 +8,14 @@ def first_regular(flows):
     return max([int(flow.lengths.conductor // flow.quantum + 1) for flow in flows], default=1)
 
 
+def first_regular_behind(others, flow, bits):
+    """The least number of turns at which the others are regular, and ahead of whose last one a flow can have sent bits.
+
+    It is from 1 on; the quanta of the flow in the turns but the last one are at least these bits.
+    """
+    return max(int(first_regular(others)), int(-(-bits // flow.quantum) + 1))
+
+
 def shared_round(flows):
     """The least common multiple of the rounds of some flows."""
     turns = 1

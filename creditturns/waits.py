@@ -3,6 +3,7 @@
 from creditturns.checks import check_count
 from creditturns.errors import NoSum
 from creditturns.links import check_link, check_name
+from creditturns.rounds import mosts_between
 
 
 class Latest:
@@ -29,7 +30,12 @@ def latest(link, name, bits):
 def check_sum(link, name, bits):
     """Refuse what is no sum from 1 on of lengths of a flow of the link."""
     check_place(link, name, bits)
-    if bits == 0 or not link[name].lengths.has(bits):
+    check_packets_end(link[name], bits)
+
+
+def check_packets_end(flow, bits):
+    """Refuse bits, a number, at which no packet of a stretch of the flow can end."""
+    if bits == 0 or not flow.lengths.has(bits):
         raise NoSum(bits)
 
 
@@ -43,3 +49,17 @@ def check_place(link, name, number):
 def ticks_of_others(link, name, turns):
     """The most ticks up to the end of so many turns of a flow in which it does not send, from its joining on."""
     return turns * len(link) * link.gap + sum([other(turns) for other in link.others(name)])
+
+
+def waits_between(link, name, first, last):
+    """The list of the ticks_of_others of a flow for each number of turns from first, from 1 on, to last."""
+    changes = len(link) * link.gap
+    rows = [list(range(first * changes, last * changes + 1, changes))]
+    for other in link.others(name):
+        rows.append(mosts_between(other, first, last))
+    return [sum(row) for row in zip(*rows)]
+
+
+def latest_ticks(link, name, bits):
+    """The ticks of the Latest of a packet, without its other parts."""
+    return bits + ticks_of_others(link, name, link[name].turn_of(bits))

@@ -4,9 +4,12 @@ import unittest
 
 from creditturns.aparts import Apart, Widest
 from creditturns.buckets import Bucket
+from creditturns.chosen import Chosen, Roomy
+from creditturns.compared import Harm, Later
 from creditturns.delays import Delay, Growing
 from creditturns.errors import BadName, Grows
 from creditturns.flows import Fed, Flow
+from creditturns.gates import Gate, Promise
 from creditturns.keeps import Lead
 from creditturns.leasts import Leasts
 from creditturns.lengths import Lengths
@@ -15,6 +18,7 @@ from creditturns.links import Link
 from creditturns.mosts import Least, Most
 from creditturns.plays import Arrival, Play, Sent, Turn
 from creditturns.ratios import Ratio
+from creditturns.told import Clash, Quanta
 from creditturns.waits import Latest
 from creditturns.worsts import Worst
 
@@ -34,6 +38,8 @@ def any_values():
         Play(Link(1), []), Arrival(0, "a", 1), Turn("a", 0, 0, (), 0, True), Sent("a", 0, 1, 0, 1, 1, 1),
         Line(Link(1)), Lead(0, ()), Most(0, 0, {}), Least(0, 0, {}), Latest(1, 1, {}),
         Worst(None, 7), Delay(7, 7), Growing(7, 7, 7, 7), Apart(7, 7, Ratio(7)), Widest(None, 7, 7),
+        Later(7, 7, 7), Harm(7, 7, 7), Promise("a", 1, 1), Gate(1), Chosen(7, 7, None), Roomy(7, None, None),
+        Quanta(7, None, None, None), Clash(None, None),
         BadName("a"), Grows(),
     ]
 

@@ -21,7 +21,9 @@ INTERFACE = {
     "keeps": ["Lead", "keeps", "lead", "shows_lead"], "waits": ["Latest", "latest"],
     "mosts": ["Most", "Least", "most", "least", "shows_most", "shows_least"], "worsts": ["Worst", "worst"],
     "services": ["until", "service"], "delays": ["Delay", "Growing", "delay", "growing"],
-    "aparts": ["Apart", "Widest", "apart", "widest"],
+    "aparts": ["Apart", "Widest", "apart", "widest"], "compared": ["Later", "Harm", "later", "alike", "harms"],
+    "gates": ["Promise", "Gate"], "chosen": ["Chosen", "Roomy", "least_quantum", "greatest_quantum"],
+    "told": ["Quanta", "Clash", "quanta", "shows_quanta"],
 }
 METHODS = {
     "Ratio": "over ceiling read", "Lengths": "of between read floor ceiling has taken numbers shortest longest "
@@ -29,7 +31,8 @@ METHODS = {
     "round_of with_quantum renamed read", "Fed": "bucket", "Link": "gap names cycle others share with_gap read",
     "Play": "link arrivals log sent finish ended_at delay comings stretches",
     "Line": "put go run each_turn link now arrivals log sent order busy waiting credit_of set_quantum leave undo deeds "
-    "trial tried attempt twin",
+    "trial tried attempt twin", "Promise": "read", "Gate": "link gap promises let_in give release leave set_quantum "
+    "set_gap spare undo deeds trial tried attempt twin",
 }
 
 
@@ -49,6 +52,10 @@ def walk(kinds):
         for node in ast.walk(tree):
             if isinstance(node, kinds):
                 yield name, node
+
+
+def mark_of(decorator):
+    return decorator.attr if isinstance(decorator, ast.Attribute) else decorator.id
 
 
 def bound_names(node):
@@ -145,7 +152,9 @@ class Form(unittest.TestCase):
     def test_decorators(self):
         for name, node in walk((ast.FunctionDef, ast.ClassDef)):
             for one in node.decorator_list:
-                self.assertIn(one.id, ("property", "staticmethod", "classmethod"), (name, node.name))
+                self.assertIn(mark_of(one), ("property", "setter", "staticmethod", "classmethod"), (name, node.name))
+                if mark_of(one) == "setter":
+                    self.assertEqual(one.value.id, node.name)
 
     def test_builtins(self):
         for name, node in walk(ast.Name):
@@ -175,7 +184,7 @@ class Form(unittest.TestCase):
         for _, node in walk(ast.ClassDef):
             for one in node.body:
                 if isinstance(one, ast.FunctionDef):
-                    is_property = any(mark.id == "property" for mark in one.decorator_list)
+                    is_property = any(mark_of(mark) in ("property", "setter") for mark in one.decorator_list)
                     (properties if is_property else methods).add(one.name)
         for _, node in walk(ast.Attribute):
             if isinstance(node.ctx, ast.Store):
@@ -195,6 +204,7 @@ class Interface(unittest.TestCase):
     def test_all_methods_are_defined_in_their_classes(self):
         classes = {node.name: node for _, node in walk(ast.ClassDef)}
         for name, told in METHODS.items():
-            defined = [one.name for one in classes[name].body if isinstance(one, ast.FunctionDef)]
+            defined = [one.name for one in classes[name].body if isinstance(one, ast.FunctionDef)
+                       and "setter" not in [mark_of(mark) for mark in one.decorator_list]]
             for one in told.split():
                 self.assertEqual(defined.count(one), 1, (name, one))
