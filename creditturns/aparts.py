@@ -3,7 +3,7 @@
 from creditturns.errors import Known
 from creditturns.flows import check_flow
 from creditturns.keeps import packets_of
-from creditturns.links import check_link
+from creditturns.links import check_link, check_name
 from creditturns.mosts import least
 from creditturns.plays import Play
 from creditturns.ratios import Ratio
@@ -68,9 +68,8 @@ def first_whole(one, other):
 def widest(link, name, other):
     """A Widest of two flows of a link."""
     check_link(link)
+    check_pair(link, name, other)
     first, second = link[name], link[other]
-    if name == other:
-        raise Known(name)
     turns = apart(first, second).turns
     slow = least(second, turns)
     check_bits(bits_of_rush(first, turns + 1) + first.longest + slow.bits + second.longest)
@@ -81,3 +80,11 @@ def widest(link, name, other):
                 (begins, other, [*packets_of(slow.parts), second.longest])]
     play = Play(link, arrivals_of(joinings))
     return Widest(play, begins, play.ended_at(name, len(rush.packets) - 1))
+
+
+def check_pair(link, name, other):
+    """Refuse what are no names of two flows of the link."""
+    check_name(link, name)
+    check_name(link, other)
+    if name == other:
+        raise Known(name)

@@ -33,19 +33,7 @@ class Link:
     @classmethod
     def read(cls, text):
         """The Link with just this text."""
-        parts = parts_of(text)
-        first = parts[0]
-        first.take_mark("gap")
-        gap = first.take_number(1, Link.MOST_GAP)
-        first.take_end()
-        flows = []
-        ahead = ""
-        for words in parts[1:]:
-            if len(flows) == Link.MOST_FLOWS:
-                words.refuse()
-            flow = take_flow(words, ahead)
-            flows.append(flow)
-            ahead = flow.name
+        gap, flows = take_parts(parts_of(text))
         return cls(gap, *flows)
 
     @property
@@ -117,6 +105,28 @@ class Link:
 
     def __str__(self):
         return "; ".join([f"gap {self._gap}", *[str(flow) for flow in self._flows]])
+
+
+def take_gap(words, mark):
+    """The gap that Words tell behind a mark, to their end."""
+    words.take_mark(mark)
+    gap = words.take_number(1, Link.MOST_GAP)
+    words.take_end()
+    return gap
+
+
+def take_parts(parts):
+    """The gap and the list of the flows of a link that a list of Words tells."""
+    gap = take_gap(parts[0], "gap")
+    flows = []
+    ahead = ""
+    for words in parts[1:]:
+        if len(flows) == Link.MOST_FLOWS:
+            words.refuse()
+        flow = take_flow(words, ahead)
+        flows.append(flow)
+        ahead = flow.name
+    return gap, flows
 
 
 def check_link(link):

@@ -21,14 +21,15 @@ def check_text(text):
 
 
 class Words:
-    """The words of a text, or of a part of one, which are taken one behind another.
+    """The words of a line of a text, or of a part of one, which are taken one behind another.
 
-    start is the index of the first one in the whole text.
+    start is the index of the first one in the whole line, line that of the line.
     """
 
-    def __init__(self, words, start=0):
+    def __init__(self, words, start=0, line=0):
         self._words = list(words)
         self._start = start
+        self._line = line
         self._at = 0
 
     def is_over(self):
@@ -36,7 +37,11 @@ class Words:
 
     def refuse(self):
         """Tell the next word, or the number of the words if none is left."""
-        raise BadText(0, self._start + self._at)
+        raise BadText(self._line, self._start + self._at)
+
+    def refuse_last(self):
+        """Tell the last word that has been taken."""
+        raise BadText(self._line, self._start + self._at - 1)
 
     def is_next(self, mark):
         return not self.is_over() and self._words[self._at] == mark
@@ -45,6 +50,13 @@ class Words:
         if not self.is_next(mark):
             self.refuse()
         self._at += 1
+
+    def take_one_of(self, marks):
+        """The next word, which must be one of these."""
+        if self.is_over() or self._words[self._at] not in marks:
+            self.refuse()
+        self._at += 1
+        return self._words[self._at - 1]
 
     def take_name(self, ahead):
         """The next word, which must be a name that is greater than the one ahead."""
@@ -65,14 +77,14 @@ class Words:
             self.refuse()
 
 
-def words_of(text):
-    """The Words of any value that is a string; they are parted at each space."""
+def words_of(text, line=0):
+    """The Words of any value that is a string, a line of a text; they are parted at each space."""
     check_text(text)
-    return Words(text.split(" "))
+    return Words(text.split(" "), 0, line)
 
 
-def parts_of(text):
-    """A list of Words, one for each part of the text; a semicolon ends a word and its part."""
+def parts_of(text, line=0):
+    """A list of Words, one for each part of a text or a line of it; a semicolon ends a word and its part."""
     check_text(text)
     parts = []
     words = []
@@ -80,8 +92,8 @@ def parts_of(text):
     for at, word in enumerate(text.split(" ")):
         words.append(word.removesuffix(";"))
         if word.endswith(";"):
-            parts.append(Words(words, start))
+            parts.append(Words(words, start, line))
             words = []
             start = at + 1
-    parts.append(Words(words, start))
+    parts.append(Words(words, start, line))
     return parts

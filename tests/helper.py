@@ -7,6 +7,7 @@ from creditturns.buckets import Bucket
 from creditturns.chosen import Chosen, Roomy
 from creditturns.compared import Harm, Later
 from creditturns.delays import Delay, Growing
+from creditturns.desk import Desk
 from creditturns.errors import BadName, Grows
 from creditturns.flows import Fed, Flow
 from creditturns.gates import Gate, Promise
@@ -15,6 +16,7 @@ from creditturns.leasts import Leasts
 from creditturns.lengths import Lengths
 from creditturns.lines import Line
 from creditturns.links import Link
+from creditturns.lookers import Looker
 from creditturns.mosts import Least, Most
 from creditturns.plays import Arrival, Play, Sent, Turn
 from creditturns.ratios import Ratio
@@ -39,7 +41,7 @@ def any_values():
         Line(Link(1)), Lead(0, ()), Most(0, 0, {}), Least(0, 0, {}), Latest(1, 1, {}),
         Worst(None, 7), Delay(7, 7), Growing(7, 7, 7, 7), Apart(7, 7, Ratio(7)), Widest(None, 7, 7),
         Later(7, 7, 7), Harm(7, 7, 7), Promise("a", 1, 1), Gate(1), Chosen(7, 7, None), Roomy(7, None, None),
-        Quanta(7, None, None, None), Clash(None, None),
+        Quanta(7, None, None, None), Clash(None, None), Looker(Link(1)), Desk(),
         BadName("a"), Grows(),
     ]
 

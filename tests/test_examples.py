@@ -24,7 +24,7 @@ class Examples(unittest.TestCase):
         files = sorted(os.listdir(FOLDER))
         self.assertEqual([name[3:-4] for name in files],
                          ["ratios", "lengths", "leasts", "buckets", "flows", "links", "plays", "lines", "keeps",
-                          "mosts", "worsts", "services", "delays", "gates", "lookers"])
+                          "mosts", "worsts", "services", "delays", "gates", "lookers", "texts", "desk"])
         for name in files:
             with open(os.path.join(FOLDER, name), encoding="ascii") as file:
                 steps = list(steps_of(file.read()))

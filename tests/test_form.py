@@ -5,6 +5,8 @@ import builtins
 import os
 import unittest
 
+from creditturns import errors
+
 FOLDER = os.path.join(os.path.dirname(os.path.dirname(os.path.abspath(__file__))), "creditturns")
 BUILTINS = ("len range enumerate zip min max sum abs sorted reversed int str bool list tuple dict set isinstance ord "
             "repr any all divmod iter next ValueError NotImplemented TypeError "
@@ -23,7 +25,8 @@ INTERFACE = {
     "services": ["until", "service"], "delays": ["Delay", "Growing", "delay", "growing"],
     "aparts": ["Apart", "Widest", "apart", "widest"], "compared": ["Later", "Harm", "later", "alike", "harms"],
     "gates": ["Promise", "Gate"], "chosen": ["Chosen", "Roomy", "least_quantum", "greatest_quantum"],
-    "told": ["Quanta", "Clash", "quanta", "shows_quanta"],
+    "told": ["Quanta", "Clash", "quanta", "shows_quanta"], "lookers": ["Looker"], "desk": ["Desk"],
+    "texts": ["play_text", "turns_text", "gate_text"], "reader": ["read_play", "read_turns", "read_gate"],
 }
 METHODS = {
     "Ratio": "over ceiling read", "Lengths": "of between read floor ceiling has taken numbers shortest longest "
@@ -32,7 +35,8 @@ METHODS = {
     "Play": "link arrivals log sent finish ended_at delay comings stretches",
     "Line": "put go run each_turn link now arrivals log sent order busy waiting credit_of set_quantum leave undo deeds "
     "trial tried attempt twin", "Promise": "read", "Gate": "link gap promises let_in give release leave set_quantum "
-    "set_gap spare undo deeds trial tried attempt twin",
+    "set_gap spare undo deeds trial tried attempt twin", "Desk": "say run gate_now deeds",
+    "Looker": "link latest worst delay grows apart widest service",
 }
 
 
@@ -127,8 +131,8 @@ class Form(unittest.TestCase):
             self.assertLessEqual(set(told), used, name)
 
     def test_no_statement_or_expression_outside_the_language(self):
-        kinds = (ast.Global, ast.AsyncFunctionDef, ast.AsyncFor, ast.AsyncWith, ast.Await, ast.ExceptHandler, ast.Set,
-                 ast.SetComp, ast.GeneratorExp, ast.AnnAssign, ast.Div, ast.MatMult, ast.Lambda, ast.Delete)
+        kinds = (ast.Global, ast.AsyncFunctionDef, ast.AsyncFor, ast.AsyncWith, ast.Await, ast.Set,
+                 ast.SetComp, ast.GeneratorExp, ast.AnnAssign, ast.Div, ast.MatMult, ast.Delete)
         for name, node in walk(kinds):
             self.fail((name, node.lineno))
         for name, node in walk(ast.Constant):
@@ -139,6 +143,10 @@ class Form(unittest.TestCase):
             for sign, right in zip(node.ops, node.comparators):
                 if isinstance(sign, (ast.Is, ast.IsNot)):
                     self.assertTrue(isinstance(right, ast.Constant) and right.value is None, (name, node.lineno))
+
+    def test_only_own_errors_are_caught(self):
+        for name, node in walk(ast.ExceptHandler):
+            self.assertIn(node.type.id, vars(errors), (name, node.lineno))
 
     def test_what_is_added_is_not_what_is_changed(self):
         # Of what stands in the code alone, anything else could be a list that walks over itself.
