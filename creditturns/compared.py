@@ -1,6 +1,6 @@
 """Links and flows that are compared: where packets can be later, and what harms the others."""
 
-from creditturns.errors import BadFlow, NoFlow, TooMany
+from creditturns.errors import BadFlow, TooMany
 from creditturns.flows import check_flow
 from creditturns.links import check_link, check_other
 from creditturns.rounds import first_regular, first_regular_behind, mosts_between, shared_round
@@ -71,8 +71,7 @@ def check_both(link, other, name):
     """Refuse what are no links, or have no equal flow of this name."""
     check_link(link)
     check_other(other)
-    if name not in link or name not in other:
-        raise NoFlow(name)
+    # A name that one of them lacks is refused by its items.
     if link[name] != other[name]:
         raise BadFlow("unlike")
 

@@ -9,9 +9,8 @@ def first_regular(flows):
 
 
 def first_regular_behind(others, flow, bits):
-    """The least number of turns at which the others are regular, and ahead of whose last one a flow can have sent bits.
-
-    It is from 1 on; the quanta of the flow in the turns but the last one are at least these bits.
+    """The least number of turns, from 1 on, at which the others are regular, and of which all but the last one give
+    a flow at least so many bits.
     """
     return max(int(first_regular(others)), int(-(-bits // flow.quantum) + 1))
 

@@ -26,7 +26,7 @@ class Words:
     start is the index of the first one in the whole line, line that of the line.
     """
 
-    def __init__(self, words, start=0, line=0):
+    def __init__(self, words, start, line):
         self._words = list(words)
         self._start = start
         self._line = line

@@ -145,6 +145,14 @@ class Worsts(Looks):
                                                    link[name].lengths.ceiling(one.bits + 1)), False)
         self.assertGreater(seen, 20)
 
+    def test_another_packet_that_is_as_late(self):
+        # The third packet of a is as late as the first one can be, but ends at bit 3.
+        link = Link(1, A, B)
+        play = Play(link, [Arrival(0, "a", 1)] * 3)
+        self.assertEqual((play.delay("a", 2), latest(link, "a", 1).ticks), (6, 6))
+        self.assertIs(Looker(link).worst(Worst(play, 2), "a", 1), False)
+        self.assertIs(Looker(link).worst(Worst(play, 2), "a", 3), False)
+
     def test_a_packet_that_comes_behind_the_first_one(self):
         # It is as long under way as it can be, but did not come with the first packet.
         link = Link(2, A)
@@ -254,6 +262,16 @@ class Grown(Looks):
                     seen.add(is_right)
                     self.assertIs(looker.grows(Growing(bits, further, ticks, more), "a", bucket), is_right, (bits, further))
         self.assertEqual(seen, {True, False})
+
+    def test_sums_below_the_conductor(self):
+        # The sums of 4 and 7 are 4, 7, 8, 11, 12, 14, 15, 16 and all from 18 on; those of 8 and 14 are twice as many.
+        for numbers, step in (((4, 7), 1), ((8, 14), 2)):
+            link = Link(1, Flow("a", 1, Lengths(*numbers)))
+            bucket = Bucket(numbers[1], 1, 1)
+            for bits in range(1, 30 * step):
+                ticks = bits * 2 - bucket.earliest(bits)
+                is_right = bits >= 18 * step and bits % step == 0
+                self.assertIs(Looker(link).grows(Growing(bits, 2, ticks, 2), "a", bucket), is_right, bits)
 
     def test_delays_with_a_bound(self):
         looker = Looker(Link(1, A, B))
